@@ -72,4 +72,8 @@ func (w work) putData() api.Bus { return w.put(w.Data) }
 
 func (w work) putStored() api.Bus { return w.store() }
 
-func (w work) putChanged() api.Bus { return w.put(w.change(w.Data)) }
+// putChanged writes what comes of Data. That is told on its own, since to tell it changes w.
+func (w work) putChanged() api.Bus {
+	v := w.change(w.Data)
+	return w.put(v)
+}
