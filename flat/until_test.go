@@ -20,6 +20,12 @@ func TestUntilByTheWords(t *testing.T) {
 			holdUntil(t, c, m, 100000, manyByWords(c, m, 10, ends))
 		}
 	})
+	for i, size := range sizes {
+		for range 20 {
+			c, m := chance.cpu(0, 0, i%2 > 0), chance.memory(size, i%2 > 0)
+			holdUntil(t, c, m, 10, manyByWords(c, m, 10, ends))
+		}
+	}
 }
 
 // Of each instruction all cycles, where nothing is crossed: memory's octets are 16, and so small X and Y are.
